@@ -154,15 +154,15 @@ func TestOnlyGoFiles(t *testing.T) {
 	}
 }
 
-// labels counts, in a package, what leaves or goes on with a loop by its label.
-func labels(all []source, pack string) int {
+// count is how many parts of a package's sources are of a kind.
+func count(all []source, pack string, is func(n ast.Node) bool) int {
 	count := 0
 	for _, s := range all {
 		if s.pack != pack {
 			continue
 		}
 		ast.Inspect(s.tree, func(n ast.Node) bool {
-			if b, ok := n.(*ast.BranchStmt); ok && b.Tok != token.GOTO && b.Label != nil {
+			if is(n) {
 				count++
 			}
 			return true
@@ -171,8 +171,35 @@ func labels(all []source, pack string) int {
 	return count
 }
 
-func TestWaysOfNat(t *testing.T) {
-	if labels(sources(t), "nat") == 0 {
-		t.Error("nat: no loop is left by a label")
+// isLabelled is what leaves or goes on with a loop by its label.
+func isLabelled(n ast.Node) bool {
+	b, ok := n.(*ast.BranchStmt)
+	return ok && b.Tok != token.GOTO && b.Label != nil
+}
+
+func isClosure(n ast.Node) bool {
+	_, ok := n.(*ast.FuncLit)
+	return ok
+}
+
+func isVariadic(n ast.Node) bool {
+	e, ok := n.(*ast.Ellipsis)
+	return ok && e.Elt != nil
+}
+
+// The document's section 'Ways' says which of the language's ways each layer leans on.
+func TestWays(t *testing.T) {
+	all := sources(t)
+	for _, c := range []struct {
+		pack, way string
+		is        func(n ast.Node) bool
+	}{
+		{"nat", "a loop that a label leaves", isLabelled},
+		{"zint", "a variadic call", isVariadic},
+		{"zint", "a closure", isClosure},
+	} {
+		if count(all, c.pack, c.is) == 0 {
+			t.Errorf("%s: nowhere is %s", c.pack, c.way)
+		}
 	}
 }
