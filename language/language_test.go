@@ -187,6 +187,49 @@ func isVariadic(n ast.Node) bool {
 	return ok && e.Elt != nil
 }
 
+func isIota(n ast.Node) bool {
+	i, ok := n.(*ast.Ident)
+	return ok && i.Name == "iota"
+}
+
+// isIterator is the type of a function that can be ranged over.
+func isIterator(e ast.Expr) bool {
+	switch x := e.(type) {
+	case *ast.IndexExpr:
+		return isIterator(x.X)
+	case *ast.IndexListExpr:
+		return isIterator(x.X)
+	case *ast.SelectorExpr:
+		from, ok := x.X.(*ast.Ident)
+		return ok && from.Name == "iter"
+	}
+	return false
+}
+
+// rangesOver tells of the ranges over what a function of the package answers, if that is an iterator.
+func rangesOver(all []source, pack string) func(n ast.Node) bool {
+	var answer []string
+	count(all, pack, func(n ast.Node) bool {
+		f, ok := n.(*ast.FuncDecl)
+		if ok && f.Type.Results != nil && isIterator(f.Type.Results.List[0].Type) {
+			answer = append(answer, f.Name.Name)
+		}
+		return ok
+	})
+	return func(n ast.Node) bool {
+		r, ok := n.(*ast.RangeStmt)
+		if !ok {
+			return false
+		}
+		c, ok := r.X.(*ast.CallExpr)
+		if !ok {
+			return false
+		}
+		f, ok := c.Fun.(*ast.Ident)
+		return ok && slices.Contains(answer, f.Name)
+	}
+}
+
 // The document's section 'Ways' says which of the language's ways each layer leans on.
 func TestWays(t *testing.T) {
 	all := sources(t)
@@ -197,6 +240,8 @@ func TestWays(t *testing.T) {
 		{"nat", "a loop that a label leaves", isLabelled},
 		{"zint", "a variadic call", isVariadic},
 		{"zint", "a closure", isClosure},
+		{"lex", "iota", isIota},
+		{"lex", "a range over a function", rangesOver(all, "lex")},
 	} {
 		if count(all, c.pack, c.is) == 0 {
 			t.Errorf("%s: nowhere is %s", c.pack, c.way)
