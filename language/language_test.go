@@ -192,6 +192,31 @@ func isIota(n ast.Node) bool {
 	return ok && i.Name == "iota"
 }
 
+func callsBuiltin(name string) func(n ast.Node) bool {
+	return func(n ast.Node) bool {
+		c, ok := n.(*ast.CallExpr)
+		if !ok {
+			return false
+		}
+		f, ok := c.Fun.(*ast.Ident)
+		return ok && f.Name == name
+	}
+}
+
+// isDeferredRecover is a deferred function literal that recovers.
+func isDeferredRecover(n ast.Node) bool {
+	d, ok := n.(*ast.DeferStmt)
+	if !ok {
+		return false
+	}
+	recovers := false
+	ast.Inspect(d.Call.Fun, func(n ast.Node) bool {
+		recovers = recovers || callsBuiltin("recover")(n)
+		return true
+	})
+	return recovers && isClosure(d.Call.Fun)
+}
+
 // isIterator is the type of a function that can be ranged over.
 func isIterator(e ast.Expr) bool {
 	switch x := e.(type) {
@@ -242,6 +267,8 @@ func TestWays(t *testing.T) {
 		{"zint", "a closure", isClosure},
 		{"lex", "iota", isIota},
 		{"lex", "a range over a function", rangesOver(all, "lex")},
+		{"syntax", "a panic", callsBuiltin("panic")},
+		{"syntax", "a recover in a deferred function", isDeferredRecover},
 	} {
 		if count(all, c.pack, c.is) == 0 {
 			t.Errorf("%s: nowhere is %s", c.pack, c.way)
