@@ -255,6 +255,43 @@ func rangesOver(all []source, pack string) func(n ast.Node) bool {
 	}
 }
 
+func isMap(n ast.Node) bool {
+	_, ok := n.(*ast.MapType)
+	return ok
+}
+
+// rangesOverMap tells of the ranges over a map that a function of the package is handed, or over what one answers, if that is a map.
+func rangesOverMap(all []source, pack string) func(n ast.Node) bool {
+	var maps []string
+	count(all, pack, func(n ast.Node) bool {
+		f, ok := n.(*ast.FuncDecl)
+		if !ok {
+			return false
+		}
+		if f.Type.Results != nil && isMap(f.Type.Results.List[0].Type) {
+			maps = append(maps, f.Name.Name)
+		}
+		for _, field := range f.Type.Params.List {
+			if isMap(field.Type) {
+				maps = append(maps, field.Names[0].Name)
+			}
+		}
+		return true
+	})
+	return func(n ast.Node) bool {
+		r, ok := n.(*ast.RangeStmt)
+		if !ok {
+			return false
+		}
+		over := r.X
+		if c, ok := over.(*ast.CallExpr); ok {
+			over = c.Fun
+		}
+		name, ok := over.(*ast.Ident)
+		return ok && slices.Contains(maps, name.Name)
+	}
+}
+
 // The document's section 'Ways' says which of the language's ways each layer leans on.
 func TestWays(t *testing.T) {
 	all := sources(t)
@@ -269,6 +306,8 @@ func TestWays(t *testing.T) {
 		{"lex", "a range over a function", rangesOver(all, "lex")},
 		{"syntax", "a panic", callsBuiltin("panic")},
 		{"syntax", "a recover in a deferred function", isDeferredRecover},
+		{"term", "a map", isMap},
+		{"term", "a range over a map", rangesOverMap(all, "term")},
 	} {
 		if count(all, c.pack, c.is) == 0 {
 			t.Errorf("%s: nowhere is %s", c.pack, c.way)
