@@ -177,6 +177,11 @@ func isLabelled(n ast.Node) bool {
 	return ok && b.Tok != token.GOTO && b.Label != nil
 }
 
+func fallsThrough(n ast.Node) bool {
+	b, ok := n.(*ast.BranchStmt)
+	return ok && b.Tok == token.FALLTHROUGH
+}
+
 func isClosure(n ast.Node) bool {
 	_, ok := n.(*ast.FuncLit)
 	return ok
@@ -308,6 +313,7 @@ func TestWays(t *testing.T) {
 		{"syntax", "a recover in a deferred function", isDeferredRecover},
 		{"term", "a map", isMap},
 		{"term", "a range over a map", rangesOverMap(all, "term")},
+		{"atom", "a case that falls through", fallsThrough},
 	} {
 		if count(all, c.pack, c.is) == 0 {
 			t.Errorf("%s: nowhere is %s", c.pack, c.way)
