@@ -297,6 +297,22 @@ func rangesOverMap(all []source, pack string) func(n ast.Node) bool {
 	}
 }
 
+// isAtomic is a name of package sync/atomic.
+func isAtomic(n ast.Node) bool {
+	s, ok := n.(*ast.SelectorExpr)
+	if !ok {
+		return false
+	}
+	from, ok := s.X.(*ast.Ident)
+	return ok && from.Name == "atomic"
+}
+
+// isSwap is a step that changes a word only if it still is what was seen.
+func isSwap(n ast.Node) bool {
+	s, ok := n.(*ast.SelectorExpr)
+	return ok && strings.HasPrefix(s.Sel.Name, "CompareAndSwap")
+}
+
 // The document's section 'Ways' says which of the language's ways each layer leans on.
 func TestWays(t *testing.T) {
 	all := sources(t)
@@ -314,6 +330,8 @@ func TestWays(t *testing.T) {
 		{"term", "a map", isMap},
 		{"term", "a range over a map", rangesOverMap(all, "term")},
 		{"atom", "a case that falls through", fallsThrough},
+		{"meter", "an atomic word", isAtomic},
+		{"meter", "one atomic step", isSwap},
 	} {
 		if count(all, c.pack, c.is) == 0 {
 			t.Errorf("%s: nowhere is %s", c.pack, c.way)
