@@ -332,6 +332,8 @@ func TestWays(t *testing.T) {
 		{"atom", "a case that falls through", fallsThrough},
 		{"meter", "an atomic word", isAtomic},
 		{"meter", "one atomic step", isSwap},
+		{"arena", "a map", isMap},
+		{"arena", "a delete from it", callsBuiltin("delete")},
 	} {
 		if count(all, c.pack, c.is) == 0 {
 			t.Errorf("%s: nowhere is %s", c.pack, c.way)
