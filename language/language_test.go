@@ -187,6 +187,24 @@ func isClosure(n ast.Node) bool {
 	return ok
 }
 
+// callsItself is a closure that is given the name by which it is called inside.
+func callsItself(n ast.Node) bool {
+	a, ok := n.(*ast.AssignStmt)
+	if !ok || !isClosure(a.Rhs[0]) {
+		return false
+	}
+	name, ok := a.Lhs[0].(*ast.Ident)
+	if !ok {
+		return false
+	}
+	calls := false
+	ast.Inspect(a.Rhs[0], func(n ast.Node) bool {
+		calls = calls || callsBuiltin(name.Name)(n)
+		return true
+	})
+	return calls
+}
+
 func isVariadic(n ast.Node) bool {
 	e, ok := n.(*ast.Ellipsis)
 	return ok && e.Elt != nil
@@ -334,6 +352,8 @@ func TestWays(t *testing.T) {
 		{"meter", "one atomic step", isSwap},
 		{"arena", "a map", isMap},
 		{"arena", "a delete from it", callsBuiltin("delete")},
+		{"simp", "a closure that calls itself", callsItself},
+		{"simp", "a loop that a label leaves", isLabelled},
 	} {
 		if count(all, c.pack, c.is) == 0 {
 			t.Errorf("%s: nowhere is %s", c.pack, c.way)
