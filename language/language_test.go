@@ -354,6 +354,8 @@ func TestWays(t *testing.T) {
 		{"arena", "a delete from it", callsBuiltin("delete")},
 		{"simp", "a closure that calls itself", callsItself},
 		{"simp", "a loop that a label leaves", isLabelled},
+		{"lower", "a closure that calls itself", callsItself},
+		{"lower", "a case that falls through", fallsThrough},
 	} {
 		if count(all, c.pack, c.is) == 0 {
 			t.Errorf("%s: nowhere is %s", c.pack, c.way)
