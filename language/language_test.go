@@ -331,6 +331,15 @@ func isSwap(n ast.Node) bool {
 	return ok && strings.HasPrefix(s.Sel.Name, "CompareAndSwap")
 }
 
+// hasFunctionField is a struct with a field that is a function.
+func hasFunctionField(n ast.Node) bool {
+	s, ok := n.(*ast.StructType)
+	return ok && slices.ContainsFunc(s.Fields.List, func(f *ast.Field) bool {
+		_, is := f.Type.(*ast.FuncType)
+		return is
+	})
+}
+
 // The document's section 'Ways' says which of the language's ways each layer leans on.
 func TestWays(t *testing.T) {
 	all := sources(t)
@@ -356,6 +365,7 @@ func TestWays(t *testing.T) {
 		{"simp", "a loop that a label leaves", isLabelled},
 		{"lower", "a closure that calls itself", callsItself},
 		{"lower", "a case that falls through", fallsThrough},
+		{"raise", "a function value in a field", hasFunctionField},
 	} {
 		if count(all, c.pack, c.is) == 0 {
 			t.Errorf("%s: nowhere is %s", c.pack, c.way)
