@@ -340,6 +340,25 @@ func hasFunctionField(n ast.Node) bool {
 	})
 }
 
+// handsOnMethod tells of the calls that are handed a method of the package with its receiver, which they may call later on.
+func handsOnMethod(all []source, pack string) func(n ast.Node) bool {
+	var methods []string
+	count(all, pack, func(n ast.Node) bool {
+		f, ok := n.(*ast.FuncDecl)
+		if ok && f.Recv != nil {
+			methods = append(methods, f.Name.Name)
+		}
+		return ok
+	})
+	return func(n ast.Node) bool {
+		c, ok := n.(*ast.CallExpr)
+		return ok && slices.ContainsFunc(c.Args, func(arg ast.Expr) bool {
+			s, is := arg.(*ast.SelectorExpr)
+			return is && slices.Contains(methods, s.Sel.Name)
+		})
+	}
+}
+
 // The document's section 'Ways' says which of the language's ways each layer leans on.
 func TestWays(t *testing.T) {
 	all := sources(t)
@@ -366,6 +385,8 @@ func TestWays(t *testing.T) {
 		{"lower", "a closure that calls itself", callsItself},
 		{"lower", "a case that falls through", fallsThrough},
 		{"raise", "a function value in a field", hasFunctionField},
+		{"subst", "a closure that calls itself", callsItself},
+		{"subst", "a method value that is handed on", handsOnMethod(all, "subst")},
 	} {
 		if count(all, c.pack, c.is) == 0 {
 			t.Errorf("%s: nowhere is %s", c.pack, c.way)
