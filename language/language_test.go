@@ -315,6 +315,22 @@ func rangesOverMap(all []source, pack string) func(n ast.Node) bool {
 	}
 }
 
+// rangesOverTold tells of the ranges over a list that a variadic function of the package answers.
+func rangesOverTold(all []source, pack string) func(n ast.Node) bool {
+	var tell []string
+	count(all, pack, func(n ast.Node) bool {
+		f, ok := n.(*ast.FuncDecl)
+		if ok && slices.ContainsFunc(f.Type.Params.List, func(p *ast.Field) bool { return isVariadic(p.Type) }) {
+			tell = append(tell, f.Name.Name)
+		}
+		return ok
+	})
+	return func(n ast.Node) bool {
+		r, ok := n.(*ast.RangeStmt)
+		return ok && slices.ContainsFunc(tell, func(name string) bool { return callsBuiltin(name)(r.X) })
+	}
+}
+
 // isAtomic is a name of package sync/atomic.
 func isAtomic(n ast.Node) bool {
 	s, ok := n.(*ast.SelectorExpr)
@@ -387,6 +403,8 @@ func TestWays(t *testing.T) {
 		{"raise", "a function value in a field", hasFunctionField},
 		{"subst", "a closure that calls itself", callsItself},
 		{"subst", "a method value that is handed on", handsOnMethod(all, "subst")},
+		{"unit", "a variadic call", isVariadic},
+		{"unit", "a range over what a variadic call tells", rangesOverTold(all, "unit")},
 	} {
 		if count(all, c.pack, c.is) == 0 {
 			t.Errorf("%s: nowhere is %s", c.pack, c.way)
