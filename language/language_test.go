@@ -375,6 +375,26 @@ func handsOnMethod(all []source, pack string) func(n ast.Node) bool {
 	}
 }
 
+// isArrayOfRows is an array, of a length that is fixed, whose elements are lists.
+func isArrayOfRows(n ast.Node) bool {
+	array, ok := n.(*ast.ArrayType)
+	if !ok || array.Len == nil {
+		return false
+	}
+	row, ok := array.Elt.(*ast.ArrayType)
+	return ok && row.Len == nil
+}
+
+// sortsByClosure is a call that sorts, and is handed a closure.
+func sortsByClosure(n ast.Node) bool {
+	c, ok := n.(*ast.CallExpr)
+	if !ok {
+		return false
+	}
+	s, ok := c.Fun.(*ast.SelectorExpr)
+	return ok && strings.HasPrefix(s.Sel.Name, "Sort") && slices.ContainsFunc(c.Args, func(arg ast.Expr) bool { return isClosure(arg) })
+}
+
 // The document's section 'Ways' says which of the language's ways each layer leans on.
 func TestWays(t *testing.T) {
 	all := sources(t)
@@ -405,6 +425,8 @@ func TestWays(t *testing.T) {
 		{"subst", "a method value that is handed on", handsOnMethod(all, "subst")},
 		{"unit", "a variadic call", isVariadic},
 		{"unit", "a range over what a variadic call tells", rangesOverTold(all, "unit")},
+		{"limit", "an array of rows", isArrayOfRows},
+		{"limit", "a closure that sorts", sortsByClosure},
 	} {
 		if count(all, c.pack, c.is) == 0 {
 			t.Errorf("%s: nowhere is %s", c.pack, c.way)
