@@ -427,6 +427,7 @@ func TestWays(t *testing.T) {
 		{"unit", "a range over what a variadic call tells", rangesOverTold(all, "unit")},
 		{"limit", "an array of rows", isArrayOfRows},
 		{"limit", "a closure that sorts", sortsByClosure},
+		{"elim", "a function value in a field", hasFunctionField},
 	} {
 		if count(all, c.pack, c.is) == 0 {
 			t.Errorf("%s: nowhere is %s", c.pack, c.way)
