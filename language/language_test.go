@@ -428,6 +428,8 @@ func TestWays(t *testing.T) {
 		{"limit", "an array of rows", isArrayOfRows},
 		{"limit", "a closure that sorts", sortsByClosure},
 		{"elim", "a function value in a field", hasFunctionField},
+		{"drive", "iota", isIota},
+		{"drive", "a loop that a label goes on with", isLabelled},
 	} {
 		if count(all, c.pack, c.is) == 0 {
 			t.Errorf("%s: nowhere is %s", c.pack, c.way)
