@@ -395,6 +395,20 @@ func sortsByClosure(n ast.Node) bool {
 	return ok && strings.HasPrefix(s.Sel.Name, "Sort") && slices.ContainsFunc(c.Args, func(arg ast.Expr) bool { return isClosure(arg) })
 }
 
+// goesThroughRows is a labelled loop over what is called rows.
+func goesThroughRows(n ast.Node) bool {
+	l, ok := n.(*ast.LabeledStmt)
+	if !ok {
+		return false
+	}
+	r, ok := l.Stmt.(*ast.RangeStmt)
+	if !ok {
+		return false
+	}
+	name, ok := r.X.(*ast.Ident)
+	return ok && name.Name == "rows"
+}
+
 // The document's section 'Ways' says which of the language's ways each layer leans on.
 func TestWays(t *testing.T) {
 	all := sources(t)
@@ -430,6 +444,8 @@ func TestWays(t *testing.T) {
 		{"elim", "a function value in a field", hasFunctionField},
 		{"drive", "iota", isIota},
 		{"drive", "a loop that a label goes on with", isLabelled},
+		{"ground", "a labelled loop over rows", goesThroughRows},
+		{"ground", "a loop that a label leaves", isLabelled},
 	} {
 		if count(all, c.pack, c.is) == 0 {
 			t.Errorf("%s: nowhere is %s", c.pack, c.way)
