@@ -409,6 +409,32 @@ func goesThroughRows(n ast.Node) bool {
 	return ok && name.Name == "rows"
 }
 
+// rangesOverNumber tells of the ranges over a number that a function of the package is handed.
+func rangesOverNumber(all []source, pack string) func(n ast.Node) bool {
+	var numbers []string
+	count(all, pack, func(n ast.Node) bool {
+		field, ok := n.(*ast.Field)
+		if !ok {
+			return false
+		}
+		kind, ok := field.Type.(*ast.Ident)
+		for _, name := range field.Names {
+			if ok && kind.Name == "int" {
+				numbers = append(numbers, name.Name)
+			}
+		}
+		return ok
+	})
+	return func(n ast.Node) bool {
+		r, ok := n.(*ast.RangeStmt)
+		if !ok {
+			return false
+		}
+		name, ok := r.X.(*ast.Ident)
+		return ok && slices.Contains(numbers, name.Name)
+	}
+}
+
 // The document's section 'Ways' says which of the language's ways each layer leans on.
 func TestWays(t *testing.T) {
 	all := sources(t)
@@ -446,6 +472,8 @@ func TestWays(t *testing.T) {
 		{"drive", "a loop that a label goes on with", isLabelled},
 		{"ground", "a labelled loop over rows", goesThroughRows},
 		{"ground", "a loop that a label leaves", isLabelled},
+		{"periods", "a copy", callsBuiltin("copy")},
+		{"periods", "a range over a whole number", rangesOverNumber(all, "periods")},
 	} {
 		if count(all, c.pack, c.is) == 0 {
 			t.Errorf("%s: nowhere is %s", c.pack, c.way)
