@@ -435,6 +435,15 @@ func rangesOverNumber(all []source, pack string) func(n ast.Node) bool {
 	}
 }
 
+// isOverFunctions tells of a function that is handed functions.
+func isOverFunctions(n ast.Node) bool {
+	f, ok := n.(*ast.FuncDecl)
+	return ok && slices.ContainsFunc(f.Type.Params.List, func(field *ast.Field) bool {
+		_, is := field.Type.(*ast.FuncType)
+		return is
+	})
+}
+
 // The document's section 'Ways' says which of the language's ways each layer leans on.
 func TestWays(t *testing.T) {
 	all := sources(t)
@@ -474,6 +483,9 @@ func TestWays(t *testing.T) {
 		{"ground", "a loop that a label leaves", isLabelled},
 		{"periods", "a copy", callsBuiltin("copy")},
 		{"periods", "a range over a whole number", rangesOverNumber(all, "periods")},
+		{"census", "a range over a whole number", rangesOverNumber(all, "census")},
+		{"census", "a closure", isClosure},
+		{"census", "a function over functions", isOverFunctions},
 	} {
 		if count(all, c.pack, c.is) == 0 {
 			t.Errorf("%s: nowhere is %s", c.pack, c.way)
