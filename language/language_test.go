@@ -486,6 +486,8 @@ func TestWays(t *testing.T) {
 		{"census", "a range over a whole number", rangesOverNumber(all, "census")},
 		{"census", "a closure", isClosure},
 		{"census", "a function over functions", isOverFunctions},
+		{"witness", "a range over a function", rangesOver(all, "witness")},
+		{"witness", "a closure", isClosure},
 	} {
 		if count(all, c.pack, c.is) == 0 {
 			t.Errorf("%s: nowhere is %s", c.pack, c.way)
