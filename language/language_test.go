@@ -240,6 +240,20 @@ func isDeferredRecover(n ast.Node) bool {
 	return recovers && isClosure(d.Call.Fun)
 }
 
+// switchesOnRecovered is a switch by the type of what was recovered.
+func switchesOnRecovered(n ast.Node) bool {
+	s, ok := n.(*ast.TypeSwitchStmt)
+	if !ok {
+		return false
+	}
+	recovers := false
+	ast.Inspect(s.Assign, func(n ast.Node) bool {
+		recovers = recovers || callsBuiltin("recover")(n)
+		return true
+	})
+	return recovers
+}
+
 // isIterator is the type of a function that can be ranged over.
 func isIterator(e ast.Expr) bool {
 	switch x := e.(type) {
@@ -488,6 +502,9 @@ func TestWays(t *testing.T) {
 		{"census", "a function over functions", isOverFunctions},
 		{"witness", "a range over a function", rangesOver(all, "witness")},
 		{"witness", "a closure", isClosure},
+		{"verdict", "a panic", callsBuiltin("panic")},
+		{"verdict", "a recover in a deferred function", isDeferredRecover},
+		{"verdict", "a type switch on what was recovered", switchesOnRecovered},
 	} {
 		if count(all, c.pack, c.is) == 0 {
 			t.Errorf("%s: nowhere is %s", c.pack, c.way)
