@@ -292,6 +292,30 @@ func rangesOver(all []source, pack string) func(n ast.Node) bool {
 	}
 }
 
+// rangesOverTelling tells of the ranges over what a method of the package answers, if that is an iterator.
+func rangesOverTelling(all []source, pack string) func(n ast.Node) bool {
+	var answer []string
+	count(all, pack, func(n ast.Node) bool {
+		f, ok := n.(*ast.FuncDecl)
+		if ok && f.Recv != nil && f.Type.Results != nil && isIterator(f.Type.Results.List[0].Type) {
+			answer = append(answer, f.Name.Name)
+		}
+		return ok
+	})
+	return func(n ast.Node) bool {
+		r, ok := n.(*ast.RangeStmt)
+		if !ok {
+			return false
+		}
+		c, ok := r.X.(*ast.CallExpr)
+		if !ok {
+			return false
+		}
+		f, ok := c.Fun.(*ast.SelectorExpr)
+		return ok && slices.Contains(answer, f.Sel.Name)
+	}
+}
+
 func isMap(n ast.Node) bool {
 	_, ok := n.(*ast.MapType)
 	return ok
@@ -505,6 +529,9 @@ func TestWays(t *testing.T) {
 		{"verdict", "a panic", callsBuiltin("panic")},
 		{"verdict", "a recover in a deferred function", isDeferredRecover},
 		{"verdict", "a type switch on what was recovered", switchesOnRecovered},
+		{"store", "a map", isMap},
+		{"store", "a delete from it", callsBuiltin("delete")},
+		{"store", "a range over a function", rangesOverTelling(all, "store")},
 	} {
 		if count(all, c.pack, c.is) == 0 {
 			t.Errorf("%s: nowhere is %s", c.pack, c.way)
