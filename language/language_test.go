@@ -379,6 +379,23 @@ func isAtomic(n ast.Node) bool {
 	return ok && from.Name == "atomic"
 }
 
+func isGoroutine(n ast.Node) bool {
+	_, ok := n.(*ast.GoStmt)
+	return ok
+}
+
+// isOfSync tells of a name of package sync.
+func isOfSync(name string) func(n ast.Node) bool {
+	return func(n ast.Node) bool {
+		s, ok := n.(*ast.SelectorExpr)
+		if !ok {
+			return false
+		}
+		from, ok := s.X.(*ast.Ident)
+		return ok && from.Name == "sync" && s.Sel.Name == name
+	}
+}
+
 // isSwap is a step that changes a word only if it still is what was seen.
 func isSwap(n ast.Node) bool {
 	s, ok := n.(*ast.SelectorExpr)
@@ -532,6 +549,10 @@ func TestWays(t *testing.T) {
 		{"store", "a map", isMap},
 		{"store", "a delete from it", callsBuiltin("delete")},
 		{"store", "a range over a function", rangesOverTelling(all, "store")},
+		{"crew", "a goroutine", isGoroutine},
+		{"crew", "a WaitGroup", isOfSync("WaitGroup")},
+		{"crew", "an atomic word", isAtomic},
+		{"crew", "a Once", isOfSync("Once")},
 	} {
 		if count(all, c.pack, c.is) == 0 {
 			t.Errorf("%s: nowhere is %s", c.pack, c.way)
